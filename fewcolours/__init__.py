@@ -1,0 +1,1 @@
+"""Fewcolours: many colours told by few."""

@@ -1,0 +1,19 @@
+"""Colours: tuples of numbers, as many as their width."""
+
+
+def is_number(thing):
+    """Whether a thing is a whole number."""
+    # Python counts True and False among its integers; here they are no numbers.
+    return isinstance(thing, int) and not isinstance(thing, bool)
+
+
+def is_colour(thing, wide):
+    """Whether a thing is a colour of that width, whatever its numbers."""
+    if not isinstance(thing, tuple) or len(thing) != wide:
+        return False
+    return all([is_number(number) for number in thing])
+
+
+def apart(one, other):
+    """The sum of the squares of the differences, place by place."""
+    return sum([(a - b) ** 2 for a, b in zip(one, other)])

@@ -1,0 +1,27 @@
+"""The names, places of arguments and kinds that the document's interface lists, of what is written so far."""
+
+import importlib
+import inspect
+import unittest
+
+FUNCTIONS = {
+    "colours": {"is_colour": 2, "apart": 2},
+    "boxes": {"is_box": 2, "holds": 2, "box_of": 1, "both_boxes": 2, "near_box": 2, "far_box": 2},
+}
+
+
+class Interface(unittest.TestCase):
+    def test_functions_take_their_arguments_by_place(self):
+        for file, functions in FUNCTIONS.items():
+            module = importlib.import_module("fewcolours." + file)
+            for name, many in functions.items():
+                with self.subTest(file=file, name=name):
+                    function = getattr(module, name)
+                    self.assertEqual(function.__module__, "fewcolours." + file)
+                    inspect.signature(function).bind(*range(many))
+                    with self.assertRaises(TypeError):
+                        inspect.signature(function).bind(*range(many + 1))
+
+
+if __name__ == "__main__":
+    unittest.main()
