@@ -1,6 +1,7 @@
 """Inputs that several tests share."""
 
 import random
+from fractions import Fraction
 
 FAR = 10 ** 6
 
@@ -37,3 +38,26 @@ def some_colour(rng, wide, low=0, high=999):
 
 def some_colours(rng, wide, many, low=0, high=999):
     return [some_colour(rng, wide, low, high) for number in range(many)]
+
+
+def some_rows(rng, wide, many, low=0, high=999):
+    """Rows of counts: at most so many colours, unlike and rising, each with a count."""
+    colours = sorted(set(some_colours(rng, wide, many, low, high)))
+    return [(colour, rng.randint(1, 1000)) for colour in colours]
+
+
+def as_pair(fraction):
+    return (fraction.numerator, fraction.denominator)
+
+
+def some_number(rng):
+    """A number of either sign, of one to forty figures, sometimes 0."""
+    return rng.choice((-1, 1)) * rng.randrange(10 ** rng.randint(1, 40))
+
+
+def some_fraction(rng):
+    return Fraction(some_number(rng), abs(some_number(rng)) + 1)
+
+
+def plain_far(colour, middle):
+    return sum(((number - fraction) ** 2 for number, fraction in zip(colour, middle)), Fraction(0))

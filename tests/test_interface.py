@@ -7,6 +7,10 @@ import unittest
 FUNCTIONS = {
     "colours": {"is_colour": 2, "apart": 2},
     "boxes": {"is_box": 2, "holds": 2, "box_of": 1, "both_boxes": 2, "near_box": 2, "far_box": 2},
+    "parts": {"part": 2, "plus": 2, "times": 2, "before": 2},
+    "middles": {"middle_of": 1, "far_of": 2, "spread_of": 1, "rounded": 1, "as_middle": 1},
+    "looking": {"nearest": 2, "in_turn": 2, "nearest_few": 3, "within": 3, "nearest_middle": 2},
+    "lines": {"line_table": 3, "by_table": 2},
 }
 
 
