@@ -40,6 +40,18 @@ def both_boxes(one, other):
     return box_of([*one, *other])
 
 
+def sides_of(box):
+    """How long the box is, place by place."""
+    low, high = box
+    return [b - a for a, b in zip(low, high)]
+
+
+def longest_place(box):
+    """The first place of the longest side."""
+    sides = sides_of(box)
+    return sides.index(max(sides))
+
+
 def near_box(colour, box):
     """How far apart from the colour the nearest one is that the box holds."""
     low, high = box

@@ -7,6 +7,13 @@ def is_number(thing):
     return isinstance(thing, int) and not isinstance(thing, bool)
 
 
+def are_rising(things):
+    """Whether the things of a list or tuple are numbers, each above the one ahead."""
+    if not all([is_number(thing) for thing in things]):
+        return False
+    return all([a < b for a, b in zip(things, things[1:])])
+
+
 def is_colour(thing, wide):
     """Whether a thing is a colour of that width, whatever its numbers."""
     if not isinstance(thing, tuple) or len(thing) != wide:

@@ -11,9 +11,14 @@ def nearest(palette, colour):
     return squares.index(min(squares))
 
 
+def rank_of(palette, colour, number):
+    """What the palette's numbers are told in turn by: how far apart, then the number."""
+    return (apart(palette[number], colour), number)
+
+
 def in_turn(palette, colour):
     """All numbers by how far apart they are, equal ones by numbers."""
-    ranks = sorted([(apart(one, colour), number) for number, one in enumerate(palette)])
+    ranks = sorted([rank_of(palette, colour, number) for number in range(len(palette))])
     return [number for square, number in ranks]
 
 

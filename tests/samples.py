@@ -1,5 +1,6 @@
 """Inputs that several tests share."""
 
+import copy
 import random
 from fractions import Fraction
 
@@ -61,3 +62,142 @@ def some_fraction(rng):
 
 def plain_far(colour, middle):
     return sum(((number - fraction) ** 2 for number, fraction in zip(colour, middle)), Fraction(0))
+
+
+# Things of every kind that may be asked about, in the place of any part of what is right.
+ANYTHING = NEITHER + [
+    2, 3, 999, "leaf", "node", "dear", "next", (0,), (1,), (1, 2), (1, 2, 3), (0, 1), [0], [0, 1], ((0, 0),), ((0, 1),),
+    [(0, 0)], [(0, 1)], ((1,), (2,)), ((0, 0), (9, 9)), ((0,), (0,)), ("leaf",), ("node",), ("leaf", ((0,), (0,)), (0,)),
+    ("node", None, None, None), ("leaf", None, None), ("node", ((0,), (9,)), (), ()), ([], []), ((), []), ([], ()),
+    ([0], []), ([0], ()), ((0,), []), ([0], [()]), ([0], [[]]), ([0], [(((0,), (0,)), (0,))]), ([0], [None]),
+]
+
+
+def alike(one, other):
+    """Whether two things are equal and of the same kinds all through (True is no 1)."""
+    if type(one) is not type(other):
+        return False
+    if isinstance(one, (list, tuple)):
+        return len(one) == len(other) and all(alike(a, b) for a, b in zip(one, other))
+    return one == other
+
+
+def some_thing(rng, levels):
+    """Anything made of numbers, True, False, None, texts, lists and tuples, at most so many deep."""
+    if levels > 0 and rng.random() < 0.7:
+        parts = [some_thing(rng, levels - 1) for part in range(rng.choice((0, 1, 1, 2, 2, 3, 4)))]
+        return rng.choice((list, tuple))(parts)
+    return rng.choice((0, 1, 2, -1, 10 ** 20, True, False, None, "", "leaf", "node", "dear", "next", "a b", (), []))
+
+
+def with_part(thing, at, other):
+    """The thing with its part at that place otherwise."""
+    parts = list(thing)
+    parts[at] = other
+    return type(thing)(parts)
+
+
+def one_otherwise(thing, others):
+    """The thing with one part, at any depth, in turn otherwise: each of others, or one less, one more, turned about."""
+    for other in others:
+        if not alike(thing, other):
+            yield other
+    if isinstance(thing, (list, tuple)):
+        other_kind = tuple if isinstance(thing, list) else list
+        yield other_kind(thing)
+        if thing:
+            yield thing + thing[-1:]
+            yield thing[:-1]
+            yield thing[1:]
+        if not alike(thing, thing[::-1]):
+            yield thing[::-1]
+        for at, part in enumerate(thing):
+            for changed in one_otherwise(part, others):
+                yield with_part(thing, at, changed)
+    elif type(thing) is int:
+        yield thing + 1
+        yield thing - 1
+
+
+def lists_in(thing):
+    """All lists in a thing, itself and those in lists and tuples in it."""
+    found = [thing] if isinstance(thing, list) else []
+    if isinstance(thing, (list, tuple)):
+        for part in thing:
+            found.extend(lists_in(part))
+    return found
+
+
+def check_own(test, ask, *handed):
+    """What is handed in stays as it was; what is told is the asker's own, and told again the same."""
+    copied = copy.deepcopy(handed)
+    first = ask(*handed)
+    kept = copy.deepcopy(first)
+    test.assertTrue(alike(handed, copied))
+    lists = lists_in(first)
+    places = {id(each) for each in lists}
+    test.assertEqual(len(places), len(lists))
+    test.assertEqual([each for each in lists_in(handed) if id(each) in places], [])
+    second = ask(*handed)
+    test.assertTrue(alike(second, kept))
+    for each in lists:
+        each.insert(0, "mine")
+        each.reverse()
+    test.assertTrue(alike(second, kept))
+    test.assertTrue(alike(handed, copied))
+    test.assertTrue(alike(ask(*handed), kept))
+    for each in lists_in(handed):
+        each.clear()
+    test.assertTrue(alike(second, kept))
+
+
+def plain_box(colours):
+    return tuple(map(min, zip(*colours))), tuple(map(max, zip(*colours)))
+
+
+def any_tree(rng, palette, numbers, most, halves):
+    """A tree of these numbers, parted by chance: in halves, or (one side of 1 at least) in any way."""
+    box = plain_box([palette[number] for number in numbers])
+    if len(numbers) == 1 or (len(numbers) <= most and rng.random() < 0.6):
+        return ("leaf", box, tuple(sorted(numbers)))
+    mixed = rng.sample(numbers, len(numbers))
+    half = len(mixed) // 2 + rng.choice((0, len(mixed) % 2))
+    cut = half if halves else rng.randint(1, len(mixed) - 1)
+    return ("node", box, any_tree(rng, palette, mixed[:cut], most, halves),
+            any_tree(rng, palette, mixed[cut:], most, halves))
+
+
+def leaning_tree(palette, left):
+    """A tree in which each node has one number on one side, all others on the other."""
+    tree = ("leaf", plain_box(palette[:1]), (0,))
+    for number in range(1, len(palette)):
+        box = plain_box(palette[:number + 1])
+        leaf = ("leaf", (palette[number], palette[number]), (number,))
+        tree = ("node", box, tree, leaf) if left else ("node", box, leaf, tree)
+    return tree
+
+
+def some_palette(rng, wide, most=60):
+    """A palette of 1 to so many colours, often with many alike ones or ties."""
+    many = min(most, rng.choice((1, 2, 3, 5, 8, 13, 20, 33, 60)))
+    return some_colours(rng, wide, many, 0, rng.choice((0, 1, 3, 20, 999)))
+
+
+def asked_for(rng, palette):
+    """A colour to be asked for: near, one of the palette's, halfway, or far off."""
+    wide = len(palette[0])
+    one, other = rng.choice(palette), rng.choice(palette)
+    return rng.choice((
+        one,
+        tuple((a + b) // 2 for a, b in zip(one, other)),
+        tuple(number + rng.randint(-2, 2) for number in one),
+        some_colour(rng, wide, -5, 1005),
+        some_colour(rng, wide, -FAR, FAR),
+        tuple(rng.choice((-FAR, FAR)) for place in range(wide)),
+    ))
+
+
+def some_picture(rng, wide, high=999, size=None):
+    """A picture of one spot, one row, one column, 16 by 16, or of any size."""
+    rows, columns = size or rng.choice(((1, 1), (1, 16), (16, 1), (1, 5), (4, 1), (2, 2), (3, 4), (7, 5), (16, 16)))
+    return [some_colours(rng, wide, columns, 0, high) for row in range(rows)]

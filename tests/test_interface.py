@@ -11,6 +11,10 @@ FUNCTIONS = {
     "middles": {"middle_of": 1, "far_of": 2, "spread_of": 1, "rounded": 1, "as_middle": 1},
     "looking": {"nearest": 2, "in_turn": 2, "nearest_few": 3, "within": 3, "nearest_middle": 2},
     "lines": {"line_table": 3, "by_table": 2},
+    "linecheck": {"shows_table": 4},
+    "trees": {"tree_of": 2, "found_in": 3, "few_in": 4, "within_in": 4},
+    "treecheck": {"is_tree": 3, "shows_nearest": 4},
+    "pictures": {"counts_in": 1, "most_used": 2, "numbers_by": 2, "painted": 2, "lost_in": 2},
 }
 
 

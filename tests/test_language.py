@@ -124,6 +124,28 @@ class Language(unittest.TestCase):
                 top.extend([node.name] if hasattr(node, "name") else [])
             self.assertEqual(len(top), len(set(top)), name)
 
+    def test_l15_no_local_has_the_name_of_an_import_a_class_or_a_function(self):
+        for name, tree in self.trees.items():
+            top = {alias.asname or alias.name for node in tree.body for alias in getattr(node, "names", [])}
+            top |= {node.name for node in tree.body if hasattr(node, "name")}
+            for node in ast.walk(tree):
+                if isinstance(node, ast.Name) and not isinstance(node.ctx, ast.Load):
+                    self.assertNotIn(node.id, top, name)
+                elif isinstance(node, ast.arg):
+                    self.assertNotIn(node.arg, top, name)
+
+    def test_l16_every_import_is_used(self):
+        for name, tree in self.trees.items():
+            used = {node.id for node in ast.walk(tree) if isinstance(node, ast.Name)}
+            for node in tree.body:
+                for alias in getattr(node, "names", []):
+                    self.assertIn(alias.name, used, name)
+
+    def test_l24_no_set_is_iterated(self):
+        for where, node in self.nodes(ast.For, ast.comprehension):
+            self.assertNotIsInstance(node.iter, (ast.Set, ast.SetComp), where)
+            self.assertNotIn(called_name(node.iter), {"set", "frozenset"}, where)
+
     def test_l17_barred_words(self):
         for name, text in self.texts.items():
             words = re.findall(r"[A-Za-z0-9_]+", text)
