@@ -1,6 +1,16 @@
 """Middles: tuples of fractions, one for each place; and how far rows of counts spread about them."""
 
-from fewcolours.parts import part, plus, times
+from fewcolours.parts import is_fraction, part, plus, sum_of, times
+
+
+def is_middle(thing, wide):
+    """Whether a thing is a middle of that width."""
+    return isinstance(thing, tuple) and len(thing) == wide and all([is_fraction(each) for each in thing])
+
+
+def count_of(rows):
+    """The sum of the counts."""
+    return sum([count for colour, count in rows])
 
 
 def weighed_sum(rows, place):
@@ -10,7 +20,7 @@ def weighed_sum(rows, place):
 
 def middle_of(rows):
     """Place by place the sum of count times number over the sum of counts."""
-    total = sum([count for colour, count in rows])
+    total = count_of(rows)
     wide = len(rows[0][0])
     return tuple([part(weighed_sum(rows, place), total) for place in range(wide)])
 
@@ -24,13 +34,14 @@ def far_of(colour, middle):
     return square
 
 
+def far_sum(rows, middle):
+    """The sum of count times how far each colour is from the middle, of a list that may be empty."""
+    return sum_of([times((count, 1), far_of(colour, middle)) for colour, count in rows])
+
+
 def spread_of(rows):
     """The sum of count times how far each colour is from the middle of all."""
-    middle = middle_of(rows)
-    spread = (0, 1)
-    for colour, count in rows:
-        spread = plus(spread, times((count, 1), far_of(colour, middle)))
-    return spread
+    return far_sum(rows, middle_of(rows))
 
 
 def rounded_part(fraction):

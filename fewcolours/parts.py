@@ -1,5 +1,7 @@
 """Fractions: tuples (top, bottom) in lowest terms, bottom above 0."""
 
+from fewcolours.colours import is_colour
+
 
 def common_measure(one, other):
     """The greatest number that goes into both, which are not both 0."""
@@ -7,6 +9,12 @@ def common_measure(one, other):
     while other != 0:
         one, other = other, one % other
     return one
+
+
+def is_fraction(thing):
+    """Whether a thing is a fraction."""
+    # Two numbers in a tuple are just what a colour of width 2 is.
+    return is_colour(thing, 2) and thing[1] > 0 and common_measure(thing[0], thing[1]) == 1
 
 
 def part(top, bottom):
@@ -21,6 +29,14 @@ def part(top, bottom):
 def plus(one, other):
     """The sum of two fractions."""
     return part(one[0] * other[1] + other[0] * one[1], one[1] * other[1])
+
+
+def sum_of(fractions):
+    """The sum of a list of fractions, maybe empty."""
+    total = (0, 1)
+    for fraction in fractions:
+        total = plus(total, fraction)
+    return total
 
 
 def times(one, other):

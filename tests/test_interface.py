@@ -15,6 +15,10 @@ FUNCTIONS = {
     "trees": {"tree_of": 2, "found_in": 3, "few_in": 4, "within_in": 4},
     "treecheck": {"is_tree": 3, "shows_nearest": 4},
     "pictures": {"counts_in": 1, "most_used": 2, "numbers_by": 2, "painted": 2, "lost_in": 2},
+    "handing": {"wanted_by": 5, "handed_on": 4},
+    "cutting": {"cut_groups": 2, "palette_by_cuts": 2},
+    "resting": {"shared_out": 2, "lost_by": 2, "moved_once": 2, "is_resting": 2, "at_rest": 2, "palette_at_rest": 2},
+    "best": {"total_of": 1, "best_groups": 2, "best_paper": 2},
 }
 
 

@@ -107,6 +107,14 @@ class IsTree(unittest.TestCase):
             self.refuse(thing, most=8)
         self.refuse(("node", one[1], one), p[:2], 8)
 
+    def test_one_side_of_a_palette_of_one_colour(self):
+        palette = [(4,)]
+        tree = leaf(palette, 0)
+        self.take(tree, palette)
+        for side in (None, (), [], tree, ("leaf", tree[1], ()), ("leaf", tree[1], (1,)), list(tree)):
+            self.refuse(("node", tree[1], tree, side), palette)
+            self.refuse(("node", tree[1], side, tree), palette)
+
     def test_one_part_otherwise_at_any_depth(self):
         rng = dice(142)
         for turn in range(6):
