@@ -25,7 +25,8 @@ def total_at(rows, groups, known):
 def put_each_way(groups, place, many):
     """All groups with one place more: put in each group in turn, and where there may be one more, in its own."""
     ways = [groups[:at] + (groups[at] + (place,),) + groups[at + 1:] for at in range(len(groups))]
-    if len(groups) < many:
+    # The first row has a group to begin, whatever many is.
+    if len(groups) < max(many, 1):
         ways.append(groups + ((place,),))
     return ways
 

@@ -45,7 +45,7 @@ def cut_groups(rows, many):
     groups = [list(rows)]
     at = next_to_cut(groups)
     while len(groups) < many and at is not None:
-        groups[at:at + 1] = in_two(groups[at])
+        groups = groups[:at] + in_two(groups[at]) + groups[at + 1:]
         at = next_to_cut(groups)
     return groups
 

@@ -8,7 +8,7 @@ from fewcolours.looking import rank_of
 def halved(palette, most, numbers):
     """A tree of these numbers of the palette."""
     box = box_of([palette[number] for number in numbers])
-    if len(numbers) <= most:
+    if len(numbers) <= max(most, 1):
         return ("leaf", box, tuple(sorted(numbers)))
     place = longest_place(box)
     order = sorted([(palette[number][place], number) for number in numbers])
@@ -47,11 +47,11 @@ def first_rank(tree, colour):
 
 def are_ahead(ranks, many, rank):
     """Whether there are so many rising ranks that are ahead of this one."""
-    return many == 0 or (len(ranks) >= many and ranks[many - 1] < rank)
+    return many <= 0 or (len(ranks) >= many and ranks[many - 1] < rank)
 
 
 def looked_and_left(tree, palette, colour, many):
-    """A pair: the rising ranks of all that were looked at, the first many of all among them; the nodes passed over."""
+    """A pair: the rising ranks of those looked at, the first many of all among them; the nodes passed over."""
     ranks = []
     waiting = [(first_rank(tree, colour), tree)]
     # The node that may hold the nearest comes first, so no leaf is looked at that is farther off than what is told;

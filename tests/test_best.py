@@ -145,6 +145,12 @@ class BestGroups(unittest.TestCase):
             for many in (1, 2, 3, 4):
                 self.assertTrue(alike(best_groups(rows, many), plain[many]))
 
+    def test_somewhat_beyond_the_bounds_nothing_is_refused(self):
+        self.assertEqual(best_groups(LINE[:3], 0), best_groups(LINE[:3], 1))
+        self.assertEqual(best_groups(LINE, 5)[0], (2, 1))
+        self.assertEqual(best_groups(LINE, 99)[0], (0, 1))
+        self.assertEqual(best_groups(LINE + [((9,), 1)], 3)[0], (9, 1))
+
     def test_counts_weigh(self):
         rows = [((0,), 1), ((10,), 1000), ((15,), 1000), ((30,), 1)]
         self.assertEqual(best_groups(rows, 2)[1], [rows[:2], rows[2:]])

@@ -156,10 +156,20 @@ class IsResting(unittest.TestCase):
                  [((9, 1),), ((1, 0),)], [((9, 1), (1, 1))], [((9, 1),), ()], [(9,), (1,)], [(9, 1), (1, 1)],
                  [((9, 1),), ((1, 1),), ((0, 2),)], [((9, 1),), ((1, 1),), ((5, 0),)], [((9, 1),), ((1, 1),), ((0, 0),)],
                  [((9, 1),), ((1, 1, 1),)], [((9, 1),), ((1,),)], right + [None], [None], [], deep(20), [deep(19)]]
+        # Where a middle has no rows it stays, whatever it is: so these are told apart by their own form alone.
+        for thing in (((999, 1),), ((1999, 2),), ((-999, 1),)):
+            self.assertIs(is_resting(rows, right + [thing]), True, thing)
+        for thing in (((1998, 2),), ((-999, -1),), ((999, -1),), ((999, 1), (0, 1)), ((1, 0),), ((-1, 0),), ((999, 1), None)):
+            wrong.append(right + [thing])
         for thing in wrong + ANYTHING:
             self.assertIs(is_resting(rows, thing), False, thing)
             self.assertIs(is_resting(rows, [thing]), False, thing)
             self.assertIs(is_resting(rows, right + [thing]), False, thing)
+        wide_rows = [((0, 0), 1), ((2, 0), 1)]
+        self.assertIs(is_resting(wide_rows, [((1, 1), (0, 1)), ((999, 1), (0, 1))]), True)
+        for thing in [thing for thing in ANYTHING if thing not in ((0, 1), (1, 2))]:
+            for middle in ((thing, (0, 1)), ((999, 1), thing), (thing, thing)):
+                self.assertIs(is_resting(wide_rows, [((1, 1), (0, 1)), middle]), False, middle)
         rng = dice(225)
         for turn in range(1500):
             self.assertIs(is_resting(rows, some_thing(rng, rng.randint(0, 5))), False)

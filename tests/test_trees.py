@@ -81,6 +81,16 @@ class TreeOf(unittest.TestCase):
                 self.check_tree([(4, 4)] * many, most)
                 self.check_tree([(4, 4), (5, 4)] * many, most)
 
+    def test_somewhat_beyond_the_bounds_nothing_is_refused(self):
+        rng = dice(116)
+        for most in (-1, 0, 9, 20, 60, 99):
+            for many in (1, 2, 30, 80):
+                palette = some_colours(rng, 2, many)
+                self.assertEqual(sorted(numbers_of(tree_of(palette, most))), list(range(many)))
+        palette = some_colours(rng, 2, 5)
+        self.assertEqual(few_in(tree_of(palette, 1), palette, (0, 0), -1), [])
+        self.assertEqual(within_in(tree_of(palette, 1), palette, (0, 0), -1), [])
+
     def test_own(self):
         check_own(self, tree_of, [(1, 2), (5, 2), (1, 2), (0, 9)], 1)
         check_own(self, tree_of, [(1, 2), (5, 2), (1, 2), (0, 9)], 8)
