@@ -1,10 +1,15 @@
 """Inputs that several tests share."""
 
 import copy
+import itertools
 import random
 from fractions import Fraction
 
+from fewcolours.errors import BadName, BadRow, ColourError, LastColour, NoColour, NoName, NoSpot, Taken
+
 FAR = 10 ** 6
+DEAREST = 10 ** 7
+REFUSALS = (NoColour, NoSpot, LastColour, BadName, Taken, NoName, BadRow)
 
 
 def deep(levels):
@@ -151,6 +156,16 @@ def check_own(test, ask, *handed):
     test.assertTrue(alike(second, kept))
 
 
+def check_refused(test, kind, deed, *handed):
+    """The deed is refused with that error and no other one; tells the error."""
+    with test.assertRaises(kind) as caught:
+        deed(*handed)
+    test.assertIsInstance(caught.exception, ColourError)
+    test.assertIsInstance(caught.exception, ValueError)
+    test.assertEqual([each for each in REFUSALS if isinstance(caught.exception, each)], [kind])
+    return caught.exception
+
+
 def plain_box(colours):
     return tuple(map(min, zip(*colours))), tuple(map(max, zip(*colours)))
 
@@ -201,3 +216,73 @@ def some_picture(rng, wide, high=999, size=None):
     """A picture of one spot, one row, one column, 16 by 16, or of any size."""
     rows, columns = size or rng.choice(((1, 1), (1, 16), (16, 1), (1, 5), (4, 1), (2, 2), (3, 4), (7, 5), (16, 16)))
     return [some_colours(rng, wide, columns, 0, high) for row in range(rows)]
+
+
+GRID = [((a, b), 1) for a in range(3) for b in range(3)]
+LINE = [((a,), 1) for a in range(9)]
+CROSS = [((a, b), 1) for a, b in sorted([(2, b) for b in range(5)] + [(a, 2) for a in (0, 1, 3, 4)])]
+RING = [((a, b), 1) for a, b in itertools.product(range(3), repeat=2) if (a, b) != (1, 1)]
+CUBE = [((a, b, c), 1) for a, b, c in itertools.product(range(2), repeat=3)]
+SIMPLEX = [(tuple(int(at == place) for at in range(4, -1, -1)), 2) for place in range(5)]
+LIKE = [GRID, LINE, CROSS, RING, CUBE, SIMPLEX, GRID[:6], LINE[:5], [((a * a,), a + 1) for a in range(7)]]
+
+
+def plain_spread(rows):
+    """The sum of count times square, less the square of the sum over the count."""
+    total = sum(count for colour, count in rows)
+    spread = Fraction(0)
+    for numbers in zip(*[colour for colour, count in rows]):
+        weighed = list(zip(numbers, [count for colour, count in rows]))
+        spread += sum(count * number * number for number, count in weighed)
+        spread -= Fraction(sum(count * number for number, count in weighed) ** 2, total)
+    return spread
+
+
+def some_few_rows(rng, many):
+    """At most so many rows, often with many equal totals among their groups."""
+    rows = some_rows(rng, rng.randint(1, 5), many, 0, rng.choice((1, 2, 3, 999)))
+    if rng.random() < 0.7:
+        rows = [(colour, rng.choice((1, 1, 2))) for colour, count in rows]
+    return rows
+
+
+def plain_apart(one, other):
+    return sum((a - b) ** 2 for a, b in zip(one, other))
+
+
+def plain_cost(one, other, price, pairs):
+    """The cost straight from point [19], colour by colour."""
+    cost = 0
+    for i, colour in enumerate(one):
+        ends = [j for first, j in pairs if first == i]
+        cost += plain_apart(colour, other[ends[0]]) if ends else price
+    taken = [j for i, j in pairs]
+    return cost + sum(price for j in range(len(other)) if j not in taken)
+
+
+def all_pairs(many, more):
+    """All rising lists of pairs of so many colours and more others."""
+    for size in range(min(many, more) + 1):
+        for firsts in itertools.combinations(range(many), size):
+            for seconds in itertools.permutations(range(more), size):
+                yield list(zip(firsts, seconds))
+
+
+def some_prices(rng, one, other):
+    """Prices of nothing, small ones, half of and as much as two colours are apart, great ones."""
+    square = plain_apart(rng.choice(one), rng.choice(other))
+    return [0, 1, rng.randint(1, 30), square // 2, (square + 1) // 2, min(square, DEAREST), DEAREST]
+
+
+def some_two(rng, most):
+    """Two palettes of up to so many colours, some alike, sometimes one a part of the other."""
+    wide, high = rng.randint(1, 5), rng.choice((0, 1, 2, 5, 30, 999))
+    one = some_colours(rng, wide, rng.randint(1, most), 0, high)
+    other = some_colours(rng, wide, rng.randint(1, most), 0, high)
+    if rng.random() < 0.3:
+        other = rng.sample(one, rng.randint(1, len(one))) + other
+    if rng.random() < 0.2:
+        other = rng.sample(one, rng.randint(1, len(one)))
+    if rng.random() < 0.3:
+        one = one + [rng.choice(one + other)]
+    return one[:most], other[:most]

@@ -4,26 +4,8 @@ from fractions import Fraction
 
 from fewcolours.best import best_groups, best_paper, total_of
 from fewcolours.middles import spread_of
-from tests.samples import alike, as_pair, check_own, dice, some_rows
-
-GRID = [((a, b), 1) for a in range(3) for b in range(3)]
-LINE = [((a,), 1) for a in range(9)]
-CROSS = [((a, b), 1) for a, b in sorted([(2, b) for b in range(5)] + [(a, 2) for a in (0, 1, 3, 4)])]
-RING = [((a, b), 1) for a, b in itertools.product(range(3), repeat=2) if (a, b) != (1, 1)]
-CUBE = [((a, b, c), 1) for a, b, c in itertools.product(range(2), repeat=3)]
-SIMPLEX = [(tuple(int(at == place) for at in range(4, -1, -1)), 2) for place in range(5)]
-LIKE = [GRID, LINE, CROSS, RING, CUBE, SIMPLEX, GRID[:6], LINE[:5], [((a * a,), a + 1) for a in range(7)]]
-
-
-def plain_spread(rows):
-    """The sum of count times square, less the square of the sum over the count."""
-    total = sum(count for colour, count in rows)
-    spread = Fraction(0)
-    for numbers in zip(*[colour for colour, count in rows]):
-        weighed = list(zip(numbers, [count for colour, count in rows]))
-        spread += sum(count * number * number for number, count in weighed)
-        spread -= Fraction(sum(count * number for number, count in weighed) ** 2, total)
-    return spread
+from tests.samples import (CROSS, GRID, LIKE, LINE, alike, as_pair, check_own, dice, plain_spread, some_few_rows,
+                           some_rows)
 
 
 def all_groups(rows):
@@ -54,14 +36,6 @@ def plain_best(rows, manies):
             if len(groups) <= many and (best[many] is None or (total, groups) < best[many]):
                 best[many] = (total, groups)
     return {many: (as_pair(total), groups) for many, (total, groups) in best.items()}
-
-
-def some_few_rows(rng, many):
-    """At most so many rows, often with many equal totals among their groups."""
-    rows = some_rows(rng, rng.randint(1, 5), many, 0, rng.choice((1, 2, 3, 999)))
-    if rng.random() < 0.7:
-        rows = [(colour, rng.choice((1, 1, 2))) for colour, count in rows]
-    return rows
 
 
 class TotalOf(unittest.TestCase):

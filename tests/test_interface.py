@@ -1,4 +1,4 @@
-"""The names, places of arguments and kinds that the document's interface lists, of what is written so far."""
+"""The names and places of arguments that the document's interface lists."""
 
 import importlib
 import inspect
@@ -19,10 +19,25 @@ FUNCTIONS = {
     "cutting": {"cut_groups": 2, "palette_by_cuts": 2},
     "resting": {"shared_out": 2, "lost_by": 2, "moved_once": 2, "is_resting": 2, "at_rest": 2, "palette_at_rest": 2},
     "best": {"total_of": 1, "best_groups": 2, "best_paper": 2},
+    "bestcheck": {"shows_best": 4},
+    "bestline": {"best_on_line": 2},
+}
+# What each class is made with, and what its methods take behind the object itself.
+CLASSES = {
+    "kept": ("Kept", 2, {"put": 1, "take": 1, "turn": 2, "all_numbers": 0, "colour_of": 1, "nearest": 1, "few": 2,
+                         "within": 2, "tree_now": 0}),
+    "painting": ("Painting", 2, {"set_spot": 3, "put_colour": 1, "turn_colour": 2, "take_colour": 1, "numbers": 0,
+                                 "palette": 0, "picture": 0, "lost": 0, "undo": 0}),
 }
 
 
 class Interface(unittest.TestCase):
+    def check_takes(self, function, many):
+        inspect.signature(function).bind(*range(many))
+        for wrong in (many - 1, many + 1):
+            with self.assertRaises(TypeError):
+                inspect.signature(function).bind(*range(wrong))
+
     def test_functions_take_their_arguments_by_place(self):
         for file, functions in FUNCTIONS.items():
             module = importlib.import_module("fewcolours." + file)
@@ -30,9 +45,16 @@ class Interface(unittest.TestCase):
                 with self.subTest(file=file, name=name):
                     function = getattr(module, name)
                     self.assertEqual(function.__module__, "fewcolours." + file)
-                    inspect.signature(function).bind(*range(many))
-                    with self.assertRaises(TypeError):
-                        inspect.signature(function).bind(*range(many + 1))
+                    self.check_takes(function, many)
+
+    def test_methods_stand_in_the_classes_themselves(self):
+        for file, (name, made_with, methods) in CLASSES.items():
+            kind = getattr(importlib.import_module("fewcolours." + file), name)
+            self.assertEqual((kind.__module__, kind.__bases__), ("fewcolours." + file, (object,)))
+            self.check_takes(kind.__init__, made_with + 1)
+            for method, many in methods.items():
+                with self.subTest(file=file, method=method):
+                    self.check_takes(vars(kind)[method], many + 1)
 
 
 if __name__ == "__main__":

@@ -13,6 +13,9 @@ BUILTINS = set("""len range enumerate zip min max sum abs sorted reversed int st
     isinstance ord repr any all divmod Exception ValueError TypeError KeyError IndexError LookupError
     ZeroDivisionError ArithmeticError OverflowError RuntimeError NotImplementedError AttributeError StopIteration
     NotImplemented iter next super property staticmethod classmethod""".split())
+BARRED_ATTRIBUTES = set("""items keys values pop update append clear extend insert remove reverse setdefault sort args
+    encode decode hex fromhex format format_map mro as_integer_ratio bit_count conjugate from_bytes is_integer
+    to_bytes""".split())
 DUNDERS = set("__init__ __eq__ __repr__ __str__ __len__ __enter__ __exit__ __call__ __iter__".split())
 METHODS = set("""append clear copy count endswith extend find get index insert isalnum isalpha isdigit islower isspace
     isupper items join keys ljust lower lstrip partition pop remove replace reverse rfind rjust rpartition rsplit
@@ -47,6 +50,8 @@ def bound_names(tree):
             yield node.name
         elif isinstance(node, ast.alias):
             yield node.asname or node.name
+        elif isinstance(node, (ast.MatchAs, ast.MatchStar)) and node.name is not None:
+            yield node.name
 
 
 class Language(unittest.TestCase):
@@ -87,6 +92,7 @@ class Language(unittest.TestCase):
                 self.assertRegex(node.module, r"^fewcolours\.[a-z]+$", name)
                 source = node.module.split(".")[1] + ".py"
                 defined = {each.name for each in self.trees[source].body if hasattr(each, "name")}
+                defined |= {each.targets[0].id for each in self.trees[source].body if isinstance(each, ast.Assign)}
                 for alias in node.names:
                     self.assertIn(alias.name, defined, name)
                 edges[name].add(source)
@@ -133,6 +139,8 @@ class Language(unittest.TestCase):
                     self.assertNotIn(node.id, top, name)
                 elif isinstance(node, ast.arg):
                     self.assertNotIn(node.arg, top, name)
+                elif isinstance(node, (ast.MatchAs, ast.MatchStar)):
+                    self.assertNotIn(node.name, top, name)
 
     def test_l16_every_import_is_used(self):
         for name, tree in self.trees.items():
@@ -151,6 +159,35 @@ class Language(unittest.TestCase):
             words = re.findall(r"[A-Za-z0-9_]+", text)
             self.assertEqual([word for word in words if word in BARRED_WORDS], [], name)
             self.assertEqual([part for part in BARRED_PARTS if part in text], [], name)
+
+    def test_l18_l26_methods_and_attributes(self):
+        methods = {method.name for where, node in self.nodes(ast.ClassDef) for method in node.body
+                   if isinstance(method, ast.FunctionDef)} - DUNDERS
+        set_somewhere = {node.attr for where, node in self.nodes(ast.Attribute) if isinstance(node.ctx, ast.Store)}
+        self.assertEqual(methods & set_somewhere, set())
+        self.assertEqual((methods | set_somewhere) & BARRED_ATTRIBUTES, set())
+        called = {id(node.func) for where, node in self.nodes(ast.Call)}
+        for where, node in self.nodes(ast.Attribute):
+            if id(node) not in called:
+                self.assertIn(node.attr, set_somewhere, where)
+
+    def test_l6_captured_names_are_read_in_their_case_only(self):
+        for where, function in self.nodes(ast.FunctionDef):
+            for node in ast.walk(function):
+                if not isinstance(node, ast.Match):
+                    continue
+                captured = {name for case in node.cases for name in bound_names(case.pattern)}
+                inside = {id(each) for case in node.cases for each in ast.walk(case)}
+                for case in node.cases:
+                    own = set(bound_names(case.pattern))
+                    for each in ast.walk(case):
+                        if isinstance(each, ast.Name) and each.id in captured:
+                            self.assertIn(each.id, own, where)
+                            self.assertIsInstance(each.ctx, ast.Load, where)
+                outside = [each for each in ast.walk(function) if id(each) not in inside]
+                names = {each.id for each in outside if isinstance(each, ast.Name)}
+                names |= {each.arg for each in outside if isinstance(each, ast.arg)}
+                self.assertEqual(names & captured, set(), where)
 
     def test_l20_is(self):
         for where, node in self.nodes(ast.Compare):
