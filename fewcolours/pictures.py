@@ -32,3 +32,8 @@ def painted(numbers, palette):
 def lost_in(picture, other):
     """The sum of how far two pictures of one size are apart, spot by spot."""
     return sum([apart(a, b) for row, beside in zip(picture, other) for a, b in zip(row, beside)])
+
+
+def lost_with(picture, palette):
+    """The sum of how far the picture is apart from what the palette tells of it."""
+    return lost_in(picture, painted(numbers_by(picture, palette), palette))

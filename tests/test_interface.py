@@ -21,6 +21,9 @@ FUNCTIONS = {
     "best": {"total_of": 1, "best_groups": 2, "best_paper": 2},
     "bestcheck": {"shows_best": 4},
     "bestline": {"best_on_line": 2},
+    "changes": {"cost_of": 4, "least_change": 3, "change_paper": 3},
+    "changecheck": {"shows_change": 5},
+    "texts": {"run": 1},
 }
 # What each class is made with, and what its methods take behind the object itself.
 CLASSES = {
@@ -28,6 +31,7 @@ CLASSES = {
                          "within": 2, "tree_now": 0}),
     "painting": ("Painting", 2, {"set_spot": 3, "put_colour": 1, "turn_colour": 2, "take_colour": 1, "numbers": 0,
                                  "palette": 0, "picture": 0, "lost": 0, "undo": 0}),
+    "book": ("Book", 0, {"put": 2, "drop": 1, "palette_of": 1, "names": 0, "best_for": 1, "likest": 2}),
 }
 
 
